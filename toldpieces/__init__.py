@@ -1,0 +1,1 @@
+"""Toldpieces: a thing laid over houses, and told again by single numbers."""
