@@ -24,6 +24,10 @@ BARRED = """
     type typing typing_extensions enum Enum IntEnum StrEnum Flag IntFlag Generic Protocol ABC ABCMeta namedtuple
     NamedTuple TypedDict TYPE_CHECKING abstractmethod
 """.split()
+BARRED_ATTRIBUTES = """
+    items keys values pop update append clear extend insert remove reverse setdefault sort args encode decode hex
+    fromhex format format_map mro
+""".split()
 NO_GENERATOR = ("any", "all", "min", "max", "sum", "sorted")
 
 
@@ -89,6 +93,49 @@ class NamesTest(unittest.TestCase):
         for path, node in nodes_of(ast.Name):
             if isinstance(node.ctx, ast.Load) and hasattr(builtins, node.id):
                 self.assertIn(node.id, ALLOWED, (path, node.lineno))
+
+
+    def test_no_local_name_is_that_of_a_class_or_an_import_of_its_file(self):
+        for path in FILES:
+            taken = {node.name for node in TREES[path].body if isinstance(node, ast.ClassDef)}
+            taken |= {alias.name for node in TREES[path].body if isinstance(node, ast.ImportFrom)
+                      for alias in node.names}
+            for function in ast.walk(TREES[path]):
+                if isinstance(function, ast.FunctionDef):
+                    names = {name for node in ast.walk(function) if node != function for name in bound_names(node)}
+                    self.assertEqual(names & taken, set(), (path, function.name))
+
+    def test_no_files_import_from_each_other(self):
+        above = {path.stem: set() for path in FILES}
+        for path, node in nodes_of(ast.ImportFrom):
+            above[path.stem].add(node.module.split(".")[1])
+        while above:
+            free = [name for name in above if not above[name] & set(above)]
+            self.assertTrue(free, above)
+            for name in free:
+                del above[name]
+
+
+class ClassesTest(unittest.TestCase):
+    def test_what_stands_at_module_level(self):
+        for path in FILES:
+            for node in TREES[path].body[1:]:
+                self.assertIsInstance(node, (ast.ImportFrom, ast.FunctionDef, ast.ClassDef, ast.Assign), path)
+            self.assertIsNotNone(ast.get_docstring(TREES[path]), path)
+
+    def test_what_stands_in_a_class(self):
+        for path, node in nodes_of(ast.ClassDef):
+            self.assertEqual(node.decorator_list, [])
+            for at, row in enumerate(node.body):
+                if at > 0 or ast.get_docstring(node) is None:
+                    self.assertIsInstance(row, (ast.FunctionDef, ast.Assign), (path, node.name))
+
+    def test_no_name_is_a_method_and_an_attribute(self):
+        methods = {row.name for path, node in nodes_of(ast.ClassDef) for row in node.body
+                   if isinstance(row, ast.FunctionDef)}
+        stored = {node.attr for path, node in nodes_of(ast.Attribute) if isinstance(node.ctx, ast.Store)}
+        self.assertEqual(methods & stored, set())
+        self.assertEqual(stored & set(BARRED_ATTRIBUTES), set())
 
 
 class ExpressionsTest(unittest.TestCase):

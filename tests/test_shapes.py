@@ -4,6 +4,7 @@ import copy
 import unittest
 
 from tests.odd_things import plain_things, spoiled, with_part
+from tests.sample_rows import is_tuple_of_rests
 from toldpieces.rests import PRIMES
 from toldpieces.shapes import dice_many, is_shape, is_thing, places_of, secrets_many
 
@@ -21,12 +22,6 @@ def some_thing(shape, seed):
     secrets = sum(1 for row in range(l, k) for column in range(row, d))
     rests = [(seed * seed + 3 * at * at + seed * at) % p for at in range(secrets + dice)]
     return tuple(rests[:secrets]), tuple(rests[secrets:])
-
-
-def is_tuple_of_rests(p, many, thing):
-    if type(thing) is not tuple or len(thing) != many:
-        return False
-    return all(type(rest) is int and rest in range(p) for rest in thing)
 
 
 class IsShapeTest(unittest.TestCase):

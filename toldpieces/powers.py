@@ -1,6 +1,6 @@
 """Powers of a rest, what a row is worth at a rest, and the row through points ([5])."""
 
-from toldpieces.rests import contrary
+from toldpieces.rests import contrary, with_multiple
 
 
 def powers_of(p, many, x):
@@ -30,10 +30,10 @@ def through(p, pairs):
         missing = rest - worth_at(p, row, x)
         factor = missing * contrary(p, worth_at(p, vanishing, x))
         row = with_multiple(p, row + [0], vanishing, factor)
-        vanishing = with_multiple(p, [0] + vanishing, vanishing + [0], -x)
+        vanishing = with_nought_at(p, vanishing, x)
     return tuple(row)
 
 
-def with_multiple(p, row, other, factor):
-    """The row with factor times the other, which is as long, added place by place."""
-    return [(rest + factor * more) % p for rest, more in zip(row, other)]
+def with_nought_at(p, row, x):
+    """The list of one rest more that is worth, at each y, y less x times what the row, a list, is worth there."""
+    return with_multiple(p, [0] + row, row + [0], -x)

@@ -29,6 +29,11 @@ def is_row(p, many, thing):
     return all([is_rest(p, rest) for rest in thing])
 
 
+def with_multiple(p, row, other, factor):
+    """The list of the row's rests with factor times those of the other, which is as long, added place by place."""
+    return [(rest + factor * more) % p for rest, more in zip(row, other)]
+
+
 def contrary(p, a):
     """The rest b for which a times b is 1 by p."""
     # By p, high is a times high_factor and low is a times low_factor, at each step:
