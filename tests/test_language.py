@@ -28,6 +28,12 @@ BARRED_ATTRIBUTES = """
     items keys values pop update append clear extend insert remove reverse setdefault sort args encode decode hex
     fromhex format format_map mro
 """.split()
+BUILTIN_METHODS = set("""
+    append clear copy count endswith extend find get index insert isalnum isalpha isdigit islower isspace isupper items
+    join keys ljust lower lstrip partition pop remove replace reverse rfind rjust rpartition rsplit rstrip setdefault
+    split splitlines startswith strip update upper values zfill bit_length
+""".split())
+KINDS = {"int", "str", "bool", "bytes", "list", "tuple", "dict"}
 NO_GENERATOR = ("any", "all", "min", "max", "sum", "sorted")
 
 
@@ -94,7 +100,6 @@ class NamesTest(unittest.TestCase):
             if isinstance(node.ctx, ast.Load) and hasattr(builtins, node.id):
                 self.assertIn(node.id, ALLOWED, (path, node.lineno))
 
-
     def test_no_local_name_is_that_of_a_class_or_an_import_of_its_file(self):
         for path in FILES:
             taken = {node.name for node in TREES[path].body if isinstance(node, ast.ClassDef)}
@@ -123,6 +128,11 @@ class ClassesTest(unittest.TestCase):
                 self.assertIsInstance(node, (ast.ImportFrom, ast.FunctionDef, ast.ClassDef, ast.Assign), path)
             self.assertIsNotNone(ast.get_docstring(TREES[path]), path)
 
+    def test_imports_stand_at_the_top(self):
+        for path in FILES:
+            kinds = [isinstance(node, ast.ImportFrom) for node in TREES[path].body[1:]]
+            self.assertEqual(kinds, sorted(kinds, reverse=True), path)
+
     def test_what_stands_in_a_class(self):
         for path, node in nodes_of(ast.ClassDef):
             self.assertEqual(node.decorator_list, [])
@@ -136,6 +146,65 @@ class ClassesTest(unittest.TestCase):
         stored = {node.attr for path, node in nodes_of(ast.Attribute) if isinstance(node.ctx, ast.Store)}
         self.assertEqual(methods & stored, set())
         self.assertEqual(stored & set(BARRED_ATTRIBUTES), set())
+
+
+    def test_attributes_that_are_read_are_assigned_by_some_class(self):
+        stored = {node.attr for path, node in nodes_of(ast.Attribute) if isinstance(node.ctx, ast.Store)}
+        called = {id(node.func) for path, node in nodes_of(ast.Call)}
+        for path, node in nodes_of(ast.Attribute):
+            if isinstance(node.ctx, ast.Load) and id(node) not in called:
+                self.assertIn(node.attr, stored, (path, node.lineno))
+
+    def test_only_plain_methods_are_called(self):
+        own = {row.name for path, node in nodes_of(ast.ClassDef) for row in node.body
+               if isinstance(row, ast.FunctionDef)}
+        for path, node in nodes_of(ast.Call):
+            if isinstance(node.func, ast.Attribute):
+                self.assertIn(node.func.attr, BUILTIN_METHODS | own, (path, node.lineno))
+
+    def test_methods_with_double_underscores_assign_nothing(self):
+        for path, node in nodes_of(ast.FunctionDef):
+            if node.name in ("__eq__", "__str__", "__repr__", "__len__"):
+                self.assertIsInstance(node.body[-1], ast.Return, path)
+                for part in ast.walk(node):
+                    self.assertNotIsInstance(part, (ast.Assign, ast.AugAssign, ast.Delete), (path, node.name))
+            if node.name == "__len__":
+                self.assertEqual(node.body[-1].value.func.id, "len")
+
+    def test_default_values_are_plain(self):
+        for path, node in nodes_of(ast.arguments):
+            self.assertEqual((node.posonlyargs, node.vararg, node.kwarg), ([], None, None), path)
+            for default in node.defaults + [one for one in node.kw_defaults if one is not None]:
+                for part in ast.walk(default):
+                    self.assertIsInstance(part, (ast.Constant, ast.Tuple, ast.Load), path)
+        for path, node in nodes_of(ast.FunctionDef):
+            self.assertEqual(node.decorator_list, [], (path, node.name))
+            if node.name in BUILTIN_METHODS:
+                self.assertEqual(node.args.kwonlyargs, [], (path, node.name))
+
+
+class ErrorsTest(unittest.TestCase):
+    def test_errors_are_made_where_they_are_raised(self):
+        classes = {node.name for path, node in nodes_of(ast.ClassDef)}
+        for path, node in nodes_of(ast.Raise):
+            self.assertIsInstance(node.exc, ast.Call, (path, node.lineno))
+            self.assertIn(node.exc.func.id, classes, (path, node.lineno))
+            self.assertEqual(node.exc.keywords, [], (path, node.lineno))
+
+    def test_own_errors_alone_are_caught(self):
+        classes = {node.name for path, node in nodes_of(ast.ClassDef)}
+        for path, node in nodes_of(ast.ExceptHandler):
+            for name in getattr(node.type, "elts", [node.type]):
+                self.assertIn(name.id, classes, (path, node.lineno))
+
+    def test_what_stands_in_a_finally(self):
+        for path, node in nodes_of(ast.Try):
+            for row in node.finalbody:
+                for part in ast.walk(row):
+                    self.assertIsInstance(part, (ast.Assign, ast.Tuple, ast.Attribute, ast.Name, ast.Constant, ast.Expr,
+                                                 ast.Call, ast.expr_context), (path, row.lineno))
+                    if isinstance(part, ast.Call):
+                        self.assertIn(part.func.attr, ("append", "clear"), (path, row.lineno))
 
 
 class ExpressionsTest(unittest.TestCase):
@@ -158,6 +227,38 @@ class ExpressionsTest(unittest.TestCase):
             if isinstance(node.func, ast.Name) and node.func.id in NO_GENERATOR:
                 for argument in node.args:
                     self.assertNotIsInstance(argument, ast.GeneratorExp, (path, node.lineno))
+
+    def test_no_generators_and_no_sets(self):
+        for path, node in nodes_of((ast.GeneratorExp, ast.Set, ast.SetComp, ast.Yield, ast.YieldFrom, ast.Match,
+                                    ast.NamedExpr, ast.Pow)):
+            self.fail((path, getattr(node, "lineno", node)))
+
+    def test_kinds_that_are_asked_for(self):
+        classes = {node.name for path, node in nodes_of(ast.ClassDef)}
+        for path, node in nodes_of(ast.Call):
+            if isinstance(node.func, ast.Name) and node.func.id == "isinstance":
+                kinds = {kind.id for kind in getattr(node.args[1], "elts", [node.args[1]])}
+                self.assertLessEqual(kinds, KINDS | classes, (path, node.lineno))
+
+    def test_keywords_of_builtins(self):
+        for path, node in nodes_of(ast.Call):
+            if isinstance(node.func, ast.Name) and hasattr(builtins, node.func.id):
+                for keyword in node.keywords:
+                    self.assertIn(keyword.arg, ("key", "reverse", "default", "start", "strict"), (path, node.lineno))
+            if isinstance(node.func, ast.Attribute) and node.func.attr in BUILTIN_METHODS:
+                self.assertEqual(node.keywords, [], (path, node.lineno))
+
+    def test_what_stands_behind_a_star(self):
+        for path, node in nodes_of(ast.Starred):
+            self.assertIsInstance(node.value, (ast.Name, ast.Attribute), (path, node.lineno))
+
+    def test_nothing_within_a_comprehension_or_a_loop_changes_what_it_goes_through(self):
+        changing = {"append", "clear", "extend", "insert", "pop", "remove", "reverse", "setdefault", "update", "sort"}
+        for path, loop in nodes_of(ast.For):
+            through = {ast.dump(part) for part in ast.walk(loop.iter) if isinstance(part, (ast.Name, ast.Attribute))}
+            for node in [part for row in loop.body for part in ast.walk(row)]:
+                if isinstance(node, ast.Call) and isinstance(node.func, ast.Attribute) and node.func.attr in changing:
+                    self.assertNotIn(ast.dump(node.func.value), through, (path, node.lineno))
 
     def test_no_statement_outside_the_subset(self):
         for path, node in nodes_of((ast.Global, ast.AsyncFunctionDef, ast.AsyncFor, ast.AsyncWith, ast.Await)):

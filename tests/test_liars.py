@@ -6,6 +6,7 @@ import unittest
 
 from tests.odd_things import plain_things, spoiled, with_part
 from tests.sample_rows import SOME_PRIMES, all_rows, dice_of, is_tuple_of_rests, product_of, thrown_row
+from tests.sample_things import small_groups, some_xs
 from toldpieces.groups import groups_of
 from toldpieces.liars import fitting, rebuilt_right, two_fitting, two_fitting_hold
 from toldpieces.rests import PRIMES
@@ -17,19 +18,6 @@ def worth(p, row, x):
 
 def misfitting(p, row, xs, rests):
     return tuple(x for x, rest in zip(xs, rests, strict=True) if worth(p, row, x) != rest)
-
-
-def some_xs(p, many):
-    """Rising tuples of so many rests, with 0, with p - 1, with both, spread."""
-    yield tuple(range(many))
-    yield tuple(range(p - many, p))
-    yield tuple(range(many - 1)) + (p - 1,)
-    yield tuple(sorted(dice_of(p, many).sample(range(p), many)))
-
-
-def small_groups(things, most):
-    """All groups of at most so many of the things."""
-    return [group for many in range(most + 1) for group in itertools.combinations(things, many)]
 
 
 def is_two(p, xs, b, thing):

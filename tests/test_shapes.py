@@ -5,14 +5,9 @@ import unittest
 
 from tests.odd_things import plain_things, spoiled, with_part
 from tests.sample_rows import is_tuple_of_rests
+from tests.sample_things import BOUNDS, shapes_by
 from toldpieces.rests import PRIMES
 from toldpieces.shapes import dice_many, is_shape, is_thing, places_of, secrets_many
-
-BOUNDS = [(k, d, l) for d in range(1, 6) for k in range(1, d + 1) for l in range(0, k)]
-
-
-def shapes_by(*primes):
-    return [(p, k, d, l) for p in primes for k, d, l in BOUNDS]
 
 
 def some_thing(shape, seed):

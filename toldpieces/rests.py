@@ -29,6 +29,11 @@ def is_row(p, many, thing):
     return all([is_rest(p, rest) for rest in thing])
 
 
+def are_rows(p, n, many, thing):
+    """Whether it is a tuple of so many rows of n rests by p, whatever it is."""
+    return isinstance(thing, tuple) and len(thing) == many and all([is_row(p, n, row) for row in thing])
+
+
 def with_multiple(p, row, other, factor):
     """The list of the row's rests with factor times those of the other, which is as long, added place by place."""
     return [(rest + factor * more) % p for rest, more in zip(row, other)]
