@@ -48,7 +48,8 @@ class ErrorsTest(unittest.TestCase):
         for name, field in FIELDS.items():
             for thing in plain_things():
                 error = made(name, thing)
-                self.assertEqual(list(vars(error)), [] if field is None else [field])
+                self.assertEqual(list(vars(error)), ["word"] if field is None else ["word", field])
+                self.assertEqual(error.word, name)
                 if field is not None:
                     self.assertIs(getattr(error, field), thing, (name, repr(thing)[:60]))
 
@@ -62,8 +63,14 @@ class ErrorsTest(unittest.TestCase):
         for name, field in FIELDS.items():
             with self.assertRaises(CLASSES[name]) as caught:
                 raise made(name, 7)
-            self.assertEqual(vars(caught.exception), {} if field is None else {field: 7})
+            self.assertEqual(vars(caught.exception), {"word": name} if field is None else {"word": name, field: 7})
             self.assertIsInstance(str(caught.exception), str)
+
+    def test_those_without_fields_are_made_of_none(self):
+        for name, field in FIELDS.items():
+            if field is None:
+                self.assertRaises(TypeError, CLASSES[name], 1)
+        self.assertIsInstance(errors.PieceError(), ValueError)
 
     def test_two_of_a_kind_keep_their_own(self):
         one, other = errors.NoHouse(3), errors.NoHouse("three")

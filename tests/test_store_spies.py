@@ -88,7 +88,8 @@ class GroupTest(unittest.TestCase):
 
     def test_no_spy_the_first_that_was_not_posted(self):
         for ask, more in self.asking():
-            for spies, name in ((("eve",), "eve"), (("a", "ann"), "a"), (("ann", "eve", "fay"), "eve"), (("zz",), "zz")):
+            for spies, name in ((("eve",), "eve"), (("a", "ann"), "a"), (("ann", "eve", "fay"), "eve"),
+                                (("zz",), "zz")):
                 with self.assertRaises(NoSpy) as caught:
                     ask(spies, *more)
                 self.assertEqual(caught.exception.name, name)

@@ -84,7 +84,7 @@ class Store:
         answers = []
         many = 0
         stood, moments = self.stood, self.moments
-        self.entries.append(("begin", len(things)))
+        self.entries = self.entries[-LOGGED:] + [("begin", len(things))]
         self.stood, self.moments, self.busy = list(stood), list(moments), True
         try:
             for number, deed in enumerate(things):
